@@ -5,6 +5,8 @@ import (
 	"larder/api"
 	"larder/code"
 	"larder/mark"
+	"larder/proof"
+	"larder/request"
 )
 
 // Store is what is kept, with its log and its clock.
@@ -26,13 +28,21 @@ func Encode(text string, path bool) string { return code.Encode(text, path) }
 func Decode(text string, path bool) (string, api.Errno) { return code.Decode(text, path) }
 
 // Parse takes a request apart (P5).
-func Parse(text string) (api.Request, api.Errno) { return api.Request{}, api.OK }
+func Parse(text string) (api.Request, api.Errno) { return request.Parse(text) }
 
 // Canon tells the canonical form of a request (P6).
-func Canon(text string, list string) (string, api.Errno) { return "", api.OK }
+func Canon(text string, list string) (string, api.Errno) {
+	parts, errno := request.Parse(text)
+	if errno != api.OK {
+		return "", errno
+	}
+	return proof.Canon(parts, list)
+}
 
 // Sign tells a signature (P6).
-func Sign(secret string, second int, canon string) (string, api.Errno) { return "", api.OK }
+func Sign(secret string, second int, canon string) (string, api.Errno) {
+	return proof.Sign(secret, second, canon)
+}
 
 // Policy tells whether a text is a policy (P7).
 func Policy(text string) api.Errno { return api.OK }

@@ -2,6 +2,8 @@ package larder_test
 
 import (
 	"math"
+	"reflect"
+	"slices"
 	"strings"
 	"sync"
 	"testing"
@@ -15,6 +17,8 @@ func oddTexts() []string {
 		"", "%", "%6", "/", "\n", "\x00", "\xff", "{", "a b", "GET / \n\n",
 		strings.Repeat("%", 3000000), strings.Repeat("a", 3000000) + "%",
 		strings.Repeat("\xff", 3000000), strings.Repeat("[", 1000000),
+		"GET /?" + strings.Repeat("a&", 3000000), "GET /\n" + strings.Repeat("a: b\n", 1000000) + "\n",
+		"GET /?" + strings.Repeat("a&", 900), "GET /\n" + strings.Repeat("\n", 1900), "PUT /\nlength: 99999999999999999999\n\nx",
 	}
 }
 
@@ -30,6 +34,7 @@ func TestP1EveryCallOfTextsEnds(t *testing.T) {
 		larder.Decode(text, true)
 		larder.Parse(text)
 		larder.Canon(text, text)
+		larder.Canon("GET /\nhost: h\n\n", text)
 		larder.Policy(text)
 		larder.Rule(text, text, text, text)
 		for _, second := range []int{math.MinInt, -1, 0, api.MaxClock, math.MaxInt} {
@@ -58,15 +63,20 @@ func TestP1LongTextsComeWhole(t *testing.T) {
 }
 
 type answers struct {
-	hash, tag, code, text, none string
-	check                       uint32
-	right, wrong                api.Errno
+	hash, tag, code, text, none, canon, signature string
+	check                                         uint32
+	parts                                         api.Request
+	right, wrong, parsed, formed, signed          api.Errno
 }
 
 func answersOf(text string) answers {
 	a := answers{hash: larder.Hash(text), tag: larder.Mac("key", text), code: larder.Encode(text, false), check: larder.Crc(text)}
 	a.text, a.right = larder.Decode(a.code, false)
 	a.none, a.wrong = larder.Decode(a.code+"%", false)
+	request := "GET /?b&a=" + a.code + "\nx-b: 1\na: 2\n\n"
+	a.parts, a.parsed = larder.Parse(request)
+	a.canon, a.formed = larder.Canon(request, "a;x-b")
+	a.signature, a.signed = larder.Sign("secret", len(text), text)
 	return a
 }
 
@@ -80,10 +90,45 @@ func TestP2AnswersHangOnArgumentsAlone(t *testing.T) {
 	var wait sync.WaitGroup
 	for i := range 40 {
 		wait.Go(func() {
-			if again := answersOf(texts[i%4]); again != first[i%4] {
+			if again := answersOf(texts[i%4]); !reflect.DeepEqual(again, first[i%4]) {
 				t.Errorf("%.20q: %+v, then %+v", texts[i%4], first[i%4], again)
 			}
 		})
 	}
 	wait.Wait()
+}
+
+// overwrite writes into a list and into its spare room.
+func overwrite(pairs []api.Pair) {
+	pairs = pairs[:cap(pairs)]
+	for i := range pairs {
+		pairs[i] = api.Pair{Name: "written", Value: "over"}
+	}
+}
+
+func copyOf(parts api.Request) api.Request {
+	parts.Query, parts.Headers = slices.Clone(parts.Query), slices.Clone(parts.Headers)
+	return parts
+}
+
+func TestP2ListsThatComeOutAreNewMemory(t *testing.T) {
+	for _, text := range []string{
+		"GET /\n\n", "GET /?a=1\nb: 2\n\n", "GET /?a&b&c\n\n", "GET /\na: 1\nb: 2\nc: 3\n\n",
+		"PUT /k?e=5&d=4&c=3&b=2&a=1\ne: 5\nd: 4\nc: 3\nb: 2\nlength: 1\n\nx",
+	} {
+		first, _ := larder.Parse(text)
+		want := copyOf(first)
+		second, _ := larder.Parse(text)
+		overwrite(second.Query)
+		if !reflect.DeepEqual(second.Headers, want.Headers) || !reflect.DeepEqual(first, want) {
+			t.Errorf("Parse(%q): writing into one list changed another", text)
+		}
+		overwrite(second.Headers)
+		if !reflect.DeepEqual(first, want) {
+			t.Errorf("Parse(%q): writing into a list changed one that came before", text)
+		}
+		if third, _ := larder.Parse(text); !reflect.DeepEqual(third, want) {
+			t.Errorf("Parse(%q): writing into a list changed one that came later", text)
+		}
+	}
 }

@@ -7,6 +7,7 @@ import (
 	"larder/mark"
 	"larder/proof"
 	"larder/request"
+	"larder/rules"
 )
 
 // Store is what is kept, with its log and its clock.
@@ -45,11 +46,18 @@ func Sign(secret string, second int, canon string) (string, api.Errno) {
 }
 
 // Policy tells whether a text is a policy (P7).
-func Policy(text string) api.Errno { return api.OK }
+func Policy(text string) api.Errno {
+	_, errno := rules.Read(text)
+	return errno
+}
 
 // Rule tells what a policy says of a user, an action and a key (P7).
 func Rule(policy string, user string, action string, key string) (int, api.Errno) {
-	return 0, api.OK
+	read, errno := rules.Read(policy)
+	if errno != api.OK {
+		return 0, errno
+	}
+	return read.Says(user, action, key), api.OK
 }
 
 // New makes a store (P8).

@@ -37,6 +37,8 @@ func TestP1EveryCallOfTextsEnds(t *testing.T) {
 		larder.Canon("GET /\nhost: h\n\n", text)
 		larder.Policy(text)
 		larder.Rule(text, text, text, text)
+		larder.Rule(allowing("*[*%*"), "al", "get", text)
+		larder.Rule(example4, text, text, text)
 		for _, second := range []int{math.MinInt, -1, 0, api.MaxClock, math.MaxInt} {
 			larder.Sign(text, second, text)
 		}
@@ -49,6 +51,25 @@ func TestP1WithAnErrorTheTextIsEmpty(t *testing.T) {
 			t.Errorf("Decode(%.20q) = %.20q, %d, want the empty text, ErrForm", code, text, errno)
 		}
 	}
+}
+
+func TestP1WithAnErrorNothingIsSaid(t *testing.T) {
+	allow := allowing("*")
+	for policy, want := range map[string]api.Errno{
+		allow + strings.Repeat(" ", 300): api.ErrLong, allow + "x": api.ErrForm, strings.Replace(allow, "}]", "},{}]", 1): api.ErrPolicy,
+	} {
+		if says, errno := larder.Rule(policy, "al", "get", "key"); says != 0 || errno != want {
+			t.Errorf("Rule(%q) = %d, %d, want 0, %d", policy, says, errno, want)
+		}
+	}
+}
+
+// Of the errors of a text that is too long, no JSON and no policy the first is told, and so on.
+func TestP1PoliciesTellTheFirstError(t *testing.T) {
+	wantPolicy(t, strings.Repeat("x", api.MaxBody+1), api.ErrLong)
+	wantPolicy(t, "[]"+strings.Repeat(" ", api.MaxBody-1), api.ErrLong)
+	wantPolicy(t, `{"rules":[{}],}`, api.ErrForm)
+	wantPolicy(t, `{"no":[]}x`, api.ErrForm)
 }
 
 func TestP1LongTextsComeWhole(t *testing.T) {
@@ -66,7 +87,9 @@ type answers struct {
 	hash, tag, code, text, none, canon, signature string
 	check                                         uint32
 	parts                                         api.Request
-	right, wrong, parsed, formed, signed          api.Errno
+	says                                          int
+	right, wrong, parsed, formed, signed, ruled   api.Errno
+	policies                                      [4]api.Errno
 }
 
 func answersOf(text string) answers {
@@ -77,6 +100,10 @@ func answersOf(text string) answers {
 	a.parts, a.parsed = larder.Parse(request)
 	a.canon, a.formed = larder.Canon(request, "a;x-b")
 	a.signature, a.signed = larder.Sign("secret", len(text), text)
+	a.says, a.ruled = larder.Rule(allowing("a*b*"), "al", "get", text)
+	for i, policy := range []string{example4, text, "{}", strings.Repeat(" ", 301)} {
+		a.policies[i] = larder.Policy(policy)
+	}
 	return a
 }
 

@@ -2,8 +2,10 @@
 package larder
 
 import (
+	"larder/answer"
 	"larder/api"
 	"larder/code"
+	"larder/kept"
 	"larder/mark"
 	"larder/proof"
 	"larder/request"
@@ -11,7 +13,11 @@ import (
 )
 
 // Store is what is kept, with its log and its clock.
-type Store struct{}
+type Store struct {
+	users []api.User
+	clock int
+	kept  *kept.Store
+}
 
 // Hash tells the hash of a text (P3).
 func Hash(text string) string { return mark.Digits(mark.Hash(text)) }
@@ -61,19 +67,38 @@ func Rule(policy string, user string, action string, key string) (int, api.Errno
 }
 
 // New makes a store (P8).
-func New(c api.Config) (*Store, api.Errno) { return nil, api.OK }
+func New(c api.Config) (*Store, api.Errno) {
+	s, _, errno := Open(c, "")
+	return s, errno
+}
 
 // Open makes a store of a log (P11).
-func Open(c api.Config, log string) (*Store, int, api.Errno) { return nil, 0, api.OK }
+func Open(c api.Config, log string) (*Store, int, api.Errno) {
+	if !isConfig(c) {
+		return nil, 0, api.ErrConfig
+	}
+	if len(log) > api.MaxRoom {
+		return nil, 0, api.ErrLong
+	}
+	users := copyUsers(c.Users)
+	s := &Store{users: users, clock: c.Clock, kept: kept.Open(namesOf(users), c.Room, log)}
+	return s, len(s.Log()), api.OK
+}
 
 // Do answers a request (P9).
-func (s *Store) Do(text string) string { return "" }
+func (s *Store) Do(text string) string { return answer.Write(s.respond(text)) }
 
 // Tick lets the clock go on (P8).
-func (s *Store) Tick(seconds int) api.Errno { return api.OK }
+func (s *Store) Tick(seconds int) api.Errno {
+	if seconds < 0 || seconds > api.MaxClock-s.clock {
+		return api.ErrNumber
+	}
+	s.clock += seconds
+	return api.OK
+}
 
 // Clock tells the second (P8).
-func (s *Store) Clock() int { return 0 }
+func (s *Store) Clock() int { return s.clock }
 
 // Log gives the log (P10).
-func (s *Store) Log() string { return "" }
+func (s *Store) Log() string { return s.kept.Log() }

@@ -11,10 +11,12 @@ import (
 	"larder/request"
 )
 
+// Prefix is what the names of a query's pairs begin with that say who signs, and those of headers that must be signed.
+const Prefix = "x-"
+
 const (
-	headerOfProof  = "auth"  // carries the signature, so is not signed
-	pairOfProof    = "x-sig" // the same, in a query
-	prefixOfSigned = "x-"
+	headerOfProof = "auth"  // carries the signature, so is not signed
+	pairOfProof   = "x-sig" // the same, in a query
 )
 
 // Canon tells the canonical form of a request for a list of names: ErrForm, if there is none.
@@ -60,7 +62,7 @@ func missesOne(headers []api.Pair, signed []api.Pair) bool {
 }
 
 func mustBeSigned(name string) bool {
-	return name == "host" || name == "length" || strings.HasPrefix(name, prefixOfSigned)
+	return name == "host" || name == "length" || strings.HasPrefix(name, Prefix)
 }
 
 // canonQuery sorts the pairs by their codes, the sign between name and value among them.

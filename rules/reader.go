@@ -3,6 +3,7 @@ package rules
 import (
 	"larder/api"
 	"larder/json"
+	"larder/names"
 )
 
 // noPolicy is what the reader panics with where a JSON value is no policy.
@@ -78,17 +79,7 @@ func readList(value json.Value, isRight func(text string) bool) []string {
 }
 
 func isWho(text string) bool {
-	return text == all || isName(text)
-}
-
-func isName(text string) bool {
-	for i := range len(text) {
-		b := text[i]
-		if !('a' <= b && b <= 'z' || '0' <= b && b <= '9') {
-			return false
-		}
-	}
-	return 1 <= len(text) && len(text) <= api.MaxName
+	return text == all || names.IsUser(text)
 }
 
 func isAction(text string) bool {

@@ -90,10 +90,10 @@ const (
 )
 
 var (
-	whole   = regexp.MustCompile(`\A\{"rules":\[(?:` + object + `(?:,` + object + `){0,3})?\]\}\z`)
-	objects = regexp.MustCompile(object)
-	names   = regexp.MustCompile(`"(effect|who|do|on)":`)
-	texts   = regexp.MustCompile(`"([^"]*)"`)
+	whole       = regexp.MustCompile(`\A\{"rules":\[(?:` + object + `(?:,` + object + `){0,3})?\]\}\z`)
+	objects     = regexp.MustCompile(object)
+	memberNames = regexp.MustCompile(`"(effect|who|do|on)":`)
+	texts       = regexp.MustCompile(`"([^"]*)"`)
 )
 
 // byExpression tells a policy in another way than the reader. It knows of no escapes: randomPolicy makes none.
@@ -104,7 +104,7 @@ func byExpression(text string) (Policy, bool) {
 	}
 	var policy Policy
 	for _, object := range objects.FindAllString(text, -1) {
-		spans := names.FindAllStringSubmatchIndex(object, -1)
+		spans := memberNames.FindAllStringSubmatchIndex(object, -1)
 		lists := map[string][]string{}
 		for i, span := range spans {
 			end := len(object)
